@@ -1,0 +1,1 @@
+"""Overlapcode: one byte row, several programs."""
