@@ -3,20 +3,15 @@ import unittest
 
 from overlapcode.errors import InvalidInstructionSet
 from overlapcode.instructions import InstructionSet, is_code
-from tests.samples import any_values, same
+from tests.samples import any_values, same, two_letters
 
 SMALL = ((0, "nop", 1, True), (1, "skip", 2, True), (2, "load", 2, False), (3, "halt", 1, False))
 WIDE = ((0, "two", 2, True), (1, "three", 3, True), (2, "add", 3, False))
 
 
-def letters(number):
-    """A name of its own for each number below 26 * 26."""
-    return "abcdefghijklmnopqrstuvwxyz"[number // 26] + "abcdefghijklmnopqrstuvwxyz"[number % 26]
-
-
 def full(byte_count):
     """An instruction for each byte, with all lengths and both padding marks."""
-    return tuple((opcode, letters(opcode), opcode % 12 + 1, opcode % 3 == 0) for opcode in range(byte_count))
+    return tuple((opcode, two_letters(opcode), opcode % 12 + 1, opcode % 3 == 0) for opcode in range(byte_count))
 
 
 def valid_arguments():
@@ -209,7 +204,7 @@ class TestQueries(unittest.TestCase):
 
     def test_longest_may_be_any_instruction(self):
         for at in range(4):
-            items = tuple((k, letters(k), 12 if k == at else 1, False) for k in range(4))
+            items = tuple((k, two_letters(k), 12 if k == at else 1, False) for k in range(4))
             self.assertEqual(InstructionSet(4, items).longest(), 12)
 
     def test_opcode_of_any_value(self):
