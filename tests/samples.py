@@ -62,3 +62,16 @@ def random_code(source, byte_count, instructions, size):
     return tuple(
         source.choice(opcodes) if source.random() < 0.9 else source.randrange(byte_count) for place in range(size)
     )
+
+
+def random_program(source, instruction_set, many):
+    """A program of so many steps, or the empty one if all instructions are padding."""
+    steps = [(name, length) for opcode, name, length, is_padding in instruction_set.instructions if not is_padding]
+    if not steps:
+        return ()
+    rows = []
+    for step in range(many):
+        name, length = source.choice(steps)
+        operands = [source.choice((None, source.randrange(instruction_set.byte_count))) for place in range(length - 1)]
+        rows.append((name, tuple(operands)))
+    return tuple(rows)

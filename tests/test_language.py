@@ -15,6 +15,11 @@ BUILTINS = set(
     "ZeroDivisionError ArithmeticError OverflowError RuntimeError NotImplementedError AttributeError StopIteration "
     "NotImplemented super property staticmethod classmethod".split()
 )
+VALUE_METHODS = set(
+    "append clear copy count endswith extend find get index insert isalnum isalpha isdigit islower isspace isupper items "
+    "join keys ljust lower lstrip partition pop remove replace reverse rfind rjust rpartition rsplit rstrip setdefault "
+    "split splitlines startswith strip update upper values zfill bit_length".split()
+)
 WORDS = (
     "type|typing|typing_extensions|enum|Enum|IntEnum|StrEnum|Flag|IntFlag|Generic|Protocol|ABC|ABCMeta|namedtuple|"
     "NamedTuple|TypedDict|TYPE_CHECKING|abstractmethod"
@@ -105,6 +110,47 @@ class TestLanguage(unittest.TestCase):
                    if isinstance(item, ast.FunctionDef)}
         stored = {node.attr for name, node in nodes(ast.Attribute) if isinstance(node.ctx, ast.Store)}
         self.assertEqual(methods & stored, set())
+
+    def test_no_local_name_is_an_import_or_a_class(self):
+        for name, tree in trees():
+            taken = {alias.name for node in ast.walk(tree) if isinstance(node, ast.ImportFrom) for alias in node.names}
+            taken |= {node.name for node in ast.walk(tree) if isinstance(node, ast.ClassDef)}
+            bound = {node.id for node in ast.walk(tree) if isinstance(node, ast.Name) and isinstance(node.ctx, ast.Store)}
+            bound |= {node.arg for node in ast.walk(tree) if isinstance(node, ast.arg)}
+            self.assertEqual(taken & bound, set(), name)
+
+    def test_methods_of_builtin_values(self):
+        own = {item.name for name, node in nodes(ast.ClassDef) for item in node.body
+               if isinstance(item, ast.FunctionDef)}
+        for name, node in nodes(ast.Call):
+            if isinstance(node.func, ast.Attribute):
+                self.assertIn(node.func.attr, own | VALUE_METHODS, (name, node.lineno))
+                if node.func.attr in VALUE_METHODS:
+                    self.assertEqual(node.keywords, [], (name, node.lineno))
+
+    def test_attributes_that_are_read_are_assigned(self):
+        methods = {item.name for name, node in nodes(ast.ClassDef) for item in node.body
+                   if isinstance(item, ast.FunctionDef)}
+        stored = {node.attr for name, node in nodes(ast.Attribute) if isinstance(node.ctx, ast.Store)}
+        for name, node in nodes(ast.Attribute):
+            self.assertIn(node.attr, methods | stored | VALUE_METHODS, (name, node.lineno))
+
+    def test_imports_name_the_defining_file_and_go_in_no_circle(self):
+        defined = {}
+        needed = {}
+        for name, tree in trees():
+            rows = {node.name for node in tree.body if isinstance(node, (ast.FunctionDef, ast.ClassDef))}
+            rows |= {target.id for node in tree.body if isinstance(node, ast.Assign) for target in node.targets}
+            module = "overlapcode." + name.removesuffix(".py")
+            defined[module] = rows
+            needed[module] = [node.module for node in tree.body if isinstance(node, ast.ImportFrom)]
+        for name, node in nodes(ast.ImportFrom):
+            self.assertLessEqual({alias.name for alias in node.names}, defined[node.module], name)
+        left = set(needed)
+        while left:
+            free = {module for module in left if not left & set(needed[module])}
+            self.assertTrue(free, left)
+            left -= free
 
     def test_is_stands_beside_none_true_and_false(self):
         for name, node in nodes(ast.Compare):
