@@ -1,6 +1,6 @@
 """Buffers: long codes that can be edited and keep the decoding from every entry known."""
 
-from overlapcode.checks import is_integer_between
+from overlapcode.checks import is_integer, is_integer_between
 from overlapcode.errors import InvalidCode, InvalidOffset, InvalidTimes, NothingToUndo
 from overlapcode.instructions import is_code
 from overlapcode.spans import bytes_of, cut, joined, meeting_in, part, repeated, span_of, start_in
@@ -39,9 +39,7 @@ class CodeBuffer:
     def repeat(self, start, stop, times):
         """Replace the bytes from `start` up to `stop` by so many copies of them."""
         self.check_range(start, stop, 0)
-        if not isinstance(times, int) or isinstance(times, bool) or times < 0:
-            raise InvalidTimes(times)
-        if self.span.size + (stop - start) * (times - 1) > MOST_BYTES:
+        if not is_integer(times) or times < 0 or self.span.size + (stop - start) * (times - 1) > MOST_BYTES:
             raise InvalidTimes(times)
         self.put(start, stop, repeated(self.instruction_set, self.between(start, stop), times))
 

@@ -87,7 +87,8 @@ def programs_of_every_kind():
     return [
         (good,), (other,), (good, other), (good, other, (HALT,)), (long,), (long, long), (long, long, long),
         (good,) * 4, (), [good], good, LOAD, {0: good}, (good, [LOAD]), (good, ([],)), (other, (HALT,) * 13, None),
-        (None, True), (good, (("nop", ()),)), ((("load", (4,)),), good), (good, other, (("load", ()),)), ((LOAD, LOAD[0]),),
+        (None, True), (good, (("nop", ()),)), ((("load", (4,)),), good), (good, other, (("load", ()),)),
+        ((LOAD, LOAD[0]),),
         *any_values(), *[(good, value) for value in any_values()],
     ]
 

@@ -514,7 +514,8 @@ class TestQueries(BufferTest):
     def test_decoders_that_stop(self):
         buffer = CodeBuffer(WIDE, (0, 1, 7, 0, 0, 0, 0))
         self.assertTrue(same([buffer.countdown(0, at) for at in range(8)], [0, 1, 0, None, None, None, None, None]))
-        self.assertEqual((buffer.start_count(0, 0, 7), buffer.start_count(0, 2, 7), buffer.start_count(0, 4, 7)), (1, 0, 0))
+        self.assertEqual((buffer.start_count(0, 0, 7), buffer.start_count(0, 2, 7), buffer.start_count(0, 4, 7)),
+                         (1, 0, 0))
         self.assertEqual((buffer.nth_start(0, 0), buffer.nth_start(0, 1)), (0, None))
         # Both come to the invalid byte with the countdown 0; then neither has one.
         self.assertEqual(buffer.agreement(0, 2), 2)

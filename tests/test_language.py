@@ -16,9 +16,9 @@ BUILTINS = set(
     "NotImplemented super property staticmethod classmethod".split()
 )
 VALUE_METHODS = set(
-    "append clear copy count endswith extend find get index insert isalnum isalpha isdigit islower isspace isupper items "
-    "join keys ljust lower lstrip partition pop remove replace reverse rfind rjust rpartition rsplit rstrip setdefault "
-    "split splitlines startswith strip update upper values zfill bit_length".split()
+    "append clear copy count endswith extend find get index insert isalnum isalpha isdigit islower isspace isupper "
+    "items join keys ljust lower lstrip partition pop remove replace reverse rfind rjust rpartition rsplit rstrip "
+    "setdefault split splitlines startswith strip update upper values zfill bit_length".split()
 )
 WORDS = (
     "type|typing|typing_extensions|enum|Enum|IntEnum|StrEnum|Flag|IntFlag|Generic|Protocol|ABC|ABCMeta|namedtuple|"
@@ -115,7 +115,8 @@ class TestLanguage(unittest.TestCase):
         for name, tree in trees():
             taken = {alias.name for node in ast.walk(tree) if isinstance(node, ast.ImportFrom) for alias in node.names}
             taken |= {node.name for node in ast.walk(tree) if isinstance(node, ast.ClassDef)}
-            bound = {node.id for node in ast.walk(tree) if isinstance(node, ast.Name) and isinstance(node.ctx, ast.Store)}
+            names = [node for node in ast.walk(tree) if isinstance(node, ast.Name)]
+            bound = {node.id for node in names if isinstance(node.ctx, ast.Store)}
             bound |= {node.arg for node in ast.walk(tree) if isinstance(node, ast.arg)}
             self.assertEqual(taken & bound, set(), name)
 
